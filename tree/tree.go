@@ -1,0 +1,101 @@
+// Package tree keeps the queues, and which hangs in which.
+package tree
+
+import (
+	"iter"
+	"slices"
+	"strings"
+
+	"borrow/amounts"
+	"borrow/api"
+	"borrow/paths"
+)
+
+// Queue is a leaf or a cohort; one that hangs in no other is a root.
+type Queue struct {
+	name   string
+	leaf   bool
+	own    api.Amount // a leaf's nominal; a cohort has none of its own
+	borrow api.Amount
+	above  *Queue
+	below  []*Queue // by their names
+}
+
+// NewCohort makes a cohort that hangs nowhere yet.
+func NewCohort(borrow api.Amount) *Queue { return &Queue{borrow: borrow} }
+
+// NewLeaf makes a leaf that hangs nowhere yet.
+func NewLeaf(nominal, borrow api.Amount) *Queue {
+	return &Queue{leaf: true, own: nominal, borrow: borrow}
+}
+
+// Leaf tells a leaf from a cohort.
+func (q *Queue) Leaf() bool { return q.leaf }
+
+// Borrow is what the queue may use above its nominal.
+func (q *Queue) Borrow() api.Amount { return q.borrow }
+
+// Nominal is the sum of what the leaves have. A cohort's is never kept, so it
+// cannot differ from theirs.
+func (q *Queue) Nominal() api.Amount {
+	var sum api.Amount
+	for each := range q.All() {
+		sum = amounts.Add(sum, each.own)
+	}
+	return sum
+}
+
+// Path says where the queue hangs.
+func (q *Queue) Path() string {
+	if q.above == nil {
+		return paths.Root
+	}
+	return paths.Join(q.above.Path(), q.name)
+}
+
+// Hang hangs a queue in this one, under a name that is free there.
+func (q *Queue) Hang(name string, queue *Queue) {
+	at, _ := q.place(name)
+	queue.name = strings.Clone(name) // what was handed in is not kept
+	queue.above = q
+	q.below = slices.Insert(q.below, at, queue)
+}
+
+// Find is the queue with this path, seen from here, or nil.
+func (q *Queue) Find(path string) *Queue {
+	found := q
+	for name := range paths.Names(path) {
+		at, there := found.place(name)
+		if !there {
+			return nil
+		}
+		found = found.below[at]
+	}
+	return found
+}
+
+// All gives the queue, and behind each cohort the queues in it, each with all
+// below it, by their names.
+func (q *Queue) All() iter.Seq[*Queue] {
+	return func(yield func(*Queue) bool) { q.each(yield) }
+}
+
+// each tells whether to go on, so that leaving early ends every level.
+func (q *Queue) each(yield func(*Queue) bool) bool {
+	if !yield(q) {
+		return false
+	}
+	for _, queue := range q.below {
+		if !queue.each(yield) {
+			return false
+		}
+	}
+	return true
+}
+
+// place is where a name stands among those below, or would stand.
+func (q *Queue) place(name string) (int, bool) {
+	return slices.BinarySearchFunc(q.below, name, func(queue *Queue, name string) int {
+		return strings.Compare(queue.name, name)
+	})
+}

@@ -1,0 +1,100 @@
+package tree
+
+import (
+	"slices"
+	"testing"
+	"unsafe"
+
+	"borrow/api"
+)
+
+var none api.Amount
+
+// sample hangs queues in a root, not in the order of their names.
+func sample() *Queue {
+	root, x := NewCohort(none), NewCohort(api.Amount{5, 6})
+	root.Hang("xy", NewLeaf(api.Amount{1, 2}, none))
+	root.Hang("x", x)
+	x.Hang("b", NewLeaf(api.Amount{10, 20}, none))
+	x.Hang("a", NewCohort(none))
+	root.Hang("c", NewLeaf(api.Amount{100, 200}, api.Amount{7, 8}))
+	return root
+}
+
+func TestAllGoesThroughByName(t *testing.T) {
+	want := []string{"", "c", "x", "x/a", "x/b", "xy"}
+	root := sample()
+	for range 2 {
+		var got []string
+		for queue := range root.All() {
+			got = append(got, queue.Path())
+		}
+		if !slices.Equal(got, want) {
+			t.Errorf("All() gave %q, want %q", got, want)
+		}
+	}
+}
+
+// TestAllIsLeftEarly leaves it at each place: one that went on would panic.
+func TestAllIsLeftEarly(t *testing.T) {
+	root := sample()
+	for most := 1; most <= 6; most++ {
+		count := 0
+		for range root.All() {
+			count++
+			if count == most {
+				break
+			}
+		}
+		if count != most {
+			t.Errorf("All() gave %d, want %d", count, most)
+		}
+	}
+}
+
+func TestFind(t *testing.T) {
+	root := sample()
+	for _, path := range []string{"", "c", "x", "x/a", "x/b", "xy"} {
+		if queue := root.Find(path); queue == nil || queue.Path() != path {
+			t.Errorf("Find(%q) found %+v", path, queue)
+		}
+	}
+	for _, path := range []string{"a", "b", "x/c", "x/x", "c/c", "x/b/a", "/", "x/", "/x", "X"} {
+		if queue := root.Find(path); queue != nil {
+			t.Errorf("Find(%q) found %+v", path, queue)
+		}
+	}
+	if below := root.Find("x").Find("b"); below != root.Find("x/b") {
+		t.Errorf("Find from within found %+v", below)
+	}
+}
+
+func TestWhatAQueueIs(t *testing.T) {
+	root := sample()
+	for _, c := range []struct {
+		path            string
+		leaf            bool
+		nominal, borrow api.Amount
+	}{
+		{"", false, api.Amount{111, 222}, none},
+		{"x", false, api.Amount{10, 20}, api.Amount{5, 6}},
+		{"x/a", false, none, none},
+		{"c", true, api.Amount{100, 200}, api.Amount{7, 8}},
+	} {
+		queue := root.Find(c.path)
+		if queue.Leaf() != c.leaf || queue.Nominal() != c.nominal || queue.Borrow() != c.borrow {
+			t.Errorf("%q: %v, %v, %v, want %+v", c.path, queue.Leaf(), queue.Nominal(), queue.Borrow(), c)
+		}
+	}
+}
+
+// TestNoNameIsKept writes over a name after it was handed in.
+func TestNoNameIsKept(t *testing.T) {
+	bytes := []byte("abc")
+	root := NewCohort(none)
+	root.Hang(unsafe.String(&bytes[0], len(bytes)), NewLeaf(none, none))
+	copy(bytes, "xyz")
+	if root.Find("abc") == nil || root.Find("xyz") != nil {
+		t.Error("the name is the caller's memory still")
+	}
+}

@@ -37,3 +37,32 @@ func TestAdd(t *testing.T) {
 		t.Errorf("Add changed what it was given: %v, %v", a, b)
 	}
 }
+
+func TestAbove(t *testing.T) {
+	for _, c := range []struct{ a, b, want api.Amount }{
+		{api.Amount{5, 7}, api.Amount{3, 7}, api.Amount{2, 0}},
+		{api.Amount{5, 7}, api.Amount{6, 1}, api.Amount{0, 6}},
+		{api.Amount{0, 0}, api.Amount{1000, 1000}, api.Amount{0, 0}},
+		{api.Amount{25000, 1}, api.Amount{0, 0}, api.Amount{25000, 1}},
+	} {
+		if got := Above(c.a, c.b); got != c.want {
+			t.Errorf("Above(%v, %v) = %v, want %v", c.a, c.b, got, c.want)
+		}
+	}
+}
+
+func TestLeast(t *testing.T) {
+	a, b, c := api.Amount{5, 7}, api.Amount{3, 8}, api.Amount{4, 0}
+	if got := Least(a); got != a {
+		t.Errorf("Least(%v) = %v", a, got)
+	}
+	if got := Least(a, b); got != (api.Amount{3, 7}) {
+		t.Errorf("Least(%v, %v) = %v", a, b, got)
+	}
+	if got := Least(a, b, c); got != (api.Amount{3, 0}) {
+		t.Errorf("Least(%v, %v, %v) = %v", a, b, c, got)
+	}
+	if a != (api.Amount{5, 7}) || b != (api.Amount{3, 8}) {
+		t.Errorf("Least changed what it was given: %v, %v", a, b)
+	}
+}

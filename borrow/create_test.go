@@ -276,13 +276,20 @@ func TestRefusedInAFullTower(t *testing.T) {
 	}
 }
 
-// TestExamples: those of DOC.md that make queues.
-func TestExamples(t *testing.T) {
+// example is the tower of the examples of DOC.md.
+func example(t *testing.T) *borrow.Tower {
+	t.Helper()
 	w := fresh(t)
 	ok(t)(w.Cohort("x", am(5, 5)))
 	ok(t)(w.Leaf("x/a", am(10, 10), none))
 	ok(t)(w.Leaf("x/b", am(10, 10), am(20, 20)))
 	ok(t)(w.Leaf("c", am(10, 10), am(10, 10)))
+	return w
+}
+
+// TestExamples: those of DOC.md that make queues.
+func TestExamples(t *testing.T) {
+	w := example(t)
 	told(t, w, api.Queue{Path: "x", Nominal: am(20, 20), Borrow: am(5, 5)})
 	told(t, w, api.Queue{Nominal: am(30, 30)})
 	no(t, api.ErrKind)(w.Leaf("x/b/d", none, none))

@@ -3,6 +3,7 @@ package borrow_test
 import (
 	"fmt"
 	"math"
+	"slices"
 	"strings"
 	"testing"
 
@@ -24,13 +25,76 @@ func fresh(t *testing.T) *borrow.Tower {
 	return w
 }
 
-// ok takes the answer of a call that is to be done and, without workloads, to tell nothing.
-func ok(t *testing.T) func([]api.Event, api.Errno) {
+// ok takes the answer of a call that is to be done and to tell nothing.
+func ok(t *testing.T) func([]api.Event, api.Errno) { return does(t, "") }
+
+// does takes the answer of a call that is to be done and to tell these events.
+func does(t *testing.T, want string) func([]api.Event, api.Errno) {
 	return func(events []api.Event, e api.Errno) {
 		t.Helper()
-		if len(events) > 0 || e != api.OK {
-			t.Errorf("the answer is %v, %d, want nothing, OK", events, e)
+		if got := spell(events); got != want || e != api.OK {
+			t.Errorf("the answer is %q, %d, want %q, OK", got, e, want)
 		}
+	}
+}
+
+// spell writes events as a text: + for who was admitted, - for who was evicted.
+func spell(events []api.Event) string {
+	text := ""
+	for _, event := range events {
+		switch event.Kind {
+		case api.Admitted:
+			text += fmt.Sprintf("+%d", event.Work)
+		case api.Evicted:
+			text += fmt.Sprintf("-%d", event.Work)
+		default:
+			text += fmt.Sprintf("?%+v", event)
+		}
+	}
+	return text
+}
+
+// submits brings a workload that is to be taken, to have this number and to tell these events.
+func submits(t *testing.T, w *borrow.Tower, path string, demand api.Amount, number int, want string) {
+	t.Helper()
+	n, events, e := w.Submit(path, demand)
+	if got := spell(events); n != number || got != want || e != api.OK {
+		t.Errorf("Submit(%q, %v) = %d, %q, %d, want %d, %q, OK", path, demand, n, got, e, number, want)
+	}
+}
+
+// refused brings a workload that is not to be taken.
+func refused(t *testing.T, w *borrow.Tower, path string, demand api.Amount, want api.Errno) {
+	t.Helper()
+	if n, events, e := w.Submit(path, demand); n != 0 || len(events) > 0 || e != want {
+		t.Errorf("P6: Submit(%.40q, %v) = %d, %q, %d, want nothing, %d", path, demand, n, spell(events), e, want)
+	}
+}
+
+// works asks for a workload that is there.
+func works(t *testing.T, w *borrow.Tower, number int, want api.Work) {
+	t.Helper()
+	if got, e := w.Work(number); got != want || e != api.OK {
+		t.Errorf("P9: Work(%d) = %+v, %d, want %+v", number, got, e, want)
+	}
+}
+
+// unknown asks for and ends workloads that are not there.
+func unknown(t *testing.T, w *borrow.Tower, numbers ...int) {
+	t.Helper()
+	for _, number := range numbers {
+		if got, e := w.Work(number); got != (api.Work{}) || e != api.ErrWork {
+			t.Errorf("P9: Work(%d) = %+v, %d, want nothing, ErrWork", number, got, e)
+		}
+		no(t, api.ErrWork)(w.Finish(number))
+	}
+}
+
+// uses asks what is used in a queue and who waits there.
+func uses(t *testing.T, w *borrow.Tower, path string, usage api.Amount, waiting ...int) {
+	t.Helper()
+	if q, e := w.Queue(path); q.Usage != usage || !slices.Equal(q.Waiting, waiting) || e != api.OK {
+		t.Errorf("P9: Queue(%q) = %+v, %d, want usage %v, waiting %v", path, q, e, usage, waiting)
 	}
 }
 
@@ -70,12 +134,16 @@ func untold(t *testing.T, w *borrow.Tower, path string, want api.Errno) {
 	}
 }
 
-// picture is all that the tower tells of these paths.
+// picture is all that the tower tells of these paths, and of its first workloads.
 func picture(w *borrow.Tower, paths []string) string {
 	var text strings.Builder
 	for _, path := range paths {
 		q, e := w.Queue(path)
 		fmt.Fprintf(&text, "%q: %+v, %d\n", path, q, e)
+	}
+	for number := range 60 {
+		work, e := w.Work(number)
+		fmt.Fprintf(&text, "%d: %+v, %d\n", number, work, e)
 	}
 	return text.String()
 }

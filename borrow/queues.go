@@ -70,11 +70,22 @@ func allAllowed(given []api.Amount) bool {
 }
 
 // tell is what a caller may know of a queue.
-func tell(queue *tree.Queue) api.Queue {
+func (t *Tower) tell(queue *tree.Queue) api.Queue {
 	return api.Queue{
 		Path:    queue.Path(),
 		Leaf:    queue.Leaf(),
 		Nominal: queue.Nominal(),
 		Borrow:  queue.Borrow(),
+		Usage:   t.book.Usage(queue),
+		Waiting: t.waiting(queue),
 	}
+}
+
+// waiting is the numbers of those in a queue's line; a cohort has none.
+func (t *Tower) waiting(queue *tree.Queue) []int {
+	var numbers []int
+	for work := range t.book.Line(queue) {
+		numbers = append(numbers, work.Number)
+	}
+	return numbers
 }

@@ -45,6 +45,9 @@ func (q *Queue) Nominal() api.Amount {
 	return sum
 }
 
+// Limit is the most that the queue may use.
+func (q *Queue) Limit() api.Amount { return amounts.Add(q.Nominal(), q.borrow) }
+
 // Path says where the queue hangs.
 func (q *Queue) Path() string {
 	if q.above == nil {
@@ -72,6 +75,24 @@ func (q *Queue) Find(path string) *Queue {
 		found = found.below[at]
 	}
 	return found
+}
+
+// Up gives the queue, that in which it hangs, and so on to the root.
+func (q *Queue) Up() iter.Seq[*Queue] {
+	return func(yield func(*Queue) bool) {
+		for queue := q; queue != nil && yield(queue); queue = queue.above {
+		}
+	}
+}
+
+// In tells whether the queue is this one or lies below it.
+func (q *Queue) In(other *Queue) bool {
+	for queue := range q.Up() {
+		if queue == other {
+			return true
+		}
+	}
+	return false
 }
 
 // All gives the queue, and behind each cohort the queues in it, each with all

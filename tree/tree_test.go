@@ -82,6 +82,9 @@ func TestWhatAQueueIs(t *testing.T) {
 		{"c", true, api.Amount{100, 200}, api.Amount{7, 8}},
 	} {
 		queue := root.Find(c.path)
+		if limit := (api.Amount{c.nominal[0] + c.borrow[0], c.nominal[1] + c.borrow[1]}); queue.Limit() != limit {
+			t.Errorf("%q: the limit is %v, want %v", c.path, queue.Limit(), limit)
+		}
 		if queue.Leaf() != c.leaf || queue.Nominal() != c.nominal || queue.Borrow() != c.borrow {
 			t.Errorf("%q: %v, %v, %v, want %+v", c.path, queue.Leaf(), queue.Nominal(), queue.Borrow(), c)
 		}
@@ -96,5 +99,41 @@ func TestNoNameIsKept(t *testing.T) {
 	copy(bytes, "xyz")
 	if root.Find("abc") == nil || root.Find("xyz") != nil {
 		t.Error("the name is the caller's memory still")
+	}
+}
+
+func TestUpGoesToTheRoot(t *testing.T) {
+	root := sample()
+	want := []string{"x/b", "x", ""}
+	var got []string
+	for queue := range root.Find("x/b").Up() {
+		got = append(got, queue.Path())
+	}
+	if !slices.Equal(got, want) {
+		t.Errorf("Up() gave %q, want %q", got, want)
+	}
+	for most := 1; most <= 3; most++ { // left early: one that went on would panic
+		count := 0
+		for range root.Find("x/b").Up() {
+			count++
+			if count == most {
+				break
+			}
+		}
+	}
+}
+
+func TestIn(t *testing.T) {
+	root := sample()
+	for _, c := range []struct {
+		path, other string
+		want        bool
+	}{
+		{"x/b", "x/b", true}, {"x/b", "x", true}, {"x/b", "", true}, {"", "", true},
+		{"x", "x/b", false}, {"", "x", false}, {"xy", "x", false}, {"x/a", "x/b", false}, {"c", "x", false},
+	} {
+		if got := root.Find(c.path).In(root.Find(c.other)); got != c.want {
+			t.Errorf("%q in %q: %v", c.path, c.other, got)
+		}
 	}
 }

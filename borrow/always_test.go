@@ -53,6 +53,11 @@ func TestWithAnErrorNothingElse(t *testing.T) {
 		refuse(t, w, r)
 	}
 	refusedWork(t, w)
+	refusedRemoves(t, w)
+	refusedQuotas(t, w)
+	for _, c := range refusedMoves() {
+		no(t, c.want)(w.Move(c.path, c.to))
+	}
 	unknown(t, w, noNumbers()...)
 	for _, text := range noPaths() {
 		untold(t, w, text, api.ErrPath)
@@ -77,14 +82,17 @@ func TestTowersAreApart(t *testing.T) {
 	fill(t, a, 8)
 	fill(t, b, 3)
 	ok(t)(b.Finish(1))
+	ok(t)(b.Remove("x"))
+	ok(t)(b.Cohort("x", none))
+	ok(t)(b.Move("a", "x"))
+	ok(t)(b.Quota("x", none, am(8, 8)))
 	manyWork(t, a, 4)
 	if one, other := picture(alone, there), picture(a, there); one != other {
 		t.Errorf("P2: the same calls, and other answers:\n%s and\n%s", one, other)
 	}
-	told(t, b, api.Queue{Path: "a", Borrow: am(9, 9)})
-	told(t, b, api.Queue{Path: "x", Leaf: true, Nominal: am(9, 9), Borrow: am(9, 9)})
-	told(t, b, api.Queue{Nominal: am(9, 9)})
-	no(t, api.ErrKind)(b.Leaf("x/a", none, none))
+	told(t, b, api.Queue{Path: "x/a", Borrow: am(9, 9)})
+	told(t, b, api.Queue{Path: "x", Borrow: am(8, 8)})
+	told(t, b, api.Queue{})
 }
 
 // TestAskingChangesNothing: what is asked twice is told twice, whatever was asked between.
@@ -105,7 +113,7 @@ func TestAskingChangesNothing(t *testing.T) {
 // TestAnswersAreTheCallers: a caller may write into what it was given, its spare room too.
 func TestAnswersAreTheCallers(t *testing.T) {
 	kept, scribbled := fresh(t), fresh(t)
-	paths := []string{"", "x", "x/a", "b", "c"}
+	paths := []string{"", "x", "x/a", "b", "c", "x/c"}
 	for step := range 40 {
 		one, oneErr := anyStep(kept, step)
 		other, otherErr := anyStep(scribbled, step)
@@ -134,6 +142,12 @@ func anyStep(w *borrow.Tower, step int) ([]api.Event, api.Errno) {
 		return w.Leaf("b", am(6, 6), am(9, 9))
 	case 20:
 		return w.Leaf("c", am(3, 3), none)
+	case 24:
+		return w.Quota("b", am(9, 9), am(9, 9))
+	case 30:
+		return w.Move("c", "x")
+	case 33:
+		return w.Quota("x/a", am(9, 9), am(9, 9))
 	}
 	if step%3 == 2 {
 		return w.Finish(step/2 - 4)

@@ -31,14 +31,16 @@ func (t *Tower) Leaf(path string, nominal api.Amount, borrow api.Amount) ([]api.
 }
 
 // Remove takes a queue away (P5).
-func (t *Tower) Remove(path string) ([]api.Event, api.Errno) { return nil, api.OK }
+func (t *Tower) Remove(path string) ([]api.Event, api.Errno) { return t.answer(t.remove(path)) }
 
 // Move hangs a queue elsewhere (P5).
-func (t *Tower) Move(path string, to string) ([]api.Event, api.Errno) { return nil, api.OK }
+func (t *Tower) Move(path string, to string) ([]api.Event, api.Errno) {
+	return t.answer(t.move(path, to))
+}
 
 // Quota changes what a queue may use (P5).
 func (t *Tower) Quota(path string, nominal api.Amount, borrow api.Amount) ([]api.Event, api.Errno) {
-	return nil, api.OK
+	return t.answer(t.quota(path, nominal, borrow))
 }
 
 // Submit brings a workload (P6).

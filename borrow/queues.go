@@ -20,13 +20,10 @@ func (t *Tower) hang(path string, queue *tree.Queue, given ...api.Amount) api.Er
 // refuseNew asks in the order in which P4 names the errors: the first one that
 // applies is the answer.
 func (t *Tower) refuseNew(path string, given []api.Amount) api.Errno {
-	if !paths.Valid(path) {
-		return api.ErrPath
+	if refusal := refusePaths(path); refusal != api.OK {
+		return refusal
 	}
-	if path == paths.Root {
-		return api.ErrRoot
-	}
-	if !allAllowed(given) {
+	if !allAllowed(given...) {
 		return api.ErrArg
 	}
 	if paths.Depth(path) > api.MaxDepth {
@@ -37,6 +34,20 @@ func (t *Tower) refuseNew(path string, given []api.Amount) api.Errno {
 	}
 	above, _ := paths.Split(path)
 	return t.refuseIn(t.root.Find(above))
+}
+
+// refusePaths tells what speaks against paths whatever else is asked: the root
+// stays as it is, but others may hang in it.
+func refusePaths(first string, others ...string) api.Errno {
+	for _, path := range append(others, first) {
+		if !paths.Valid(path) {
+			return api.ErrPath
+		}
+	}
+	if first == paths.Root {
+		return api.ErrRoot
+	}
+	return api.OK
 }
 
 // refuseIn tells what speaks against one more queue in this one.
@@ -60,7 +71,7 @@ func (t *Tower) full() bool {
 	return count >= api.MaxQueues
 }
 
-func allAllowed(given []api.Amount) bool {
+func allAllowed(given ...api.Amount) bool {
 	for _, amount := range given {
 		if !amounts.Allowed(amount) {
 			return false

@@ -90,11 +90,14 @@ func borrowMuch(t *testing.T, r *rand.Rand, w *borrow.Tower, m *model) {
 // anyCall does one call on both, and gives the events.
 func anyCall(t *testing.T, r *rand.Rand, w *borrow.Tower, m *model) string {
 	t.Helper()
-	switch n := r.IntN(20); {
+	switch n := r.IntN(24); {
 	case n == 0:
 		both(t, w, m, anyQueue(r, m))
 		return ""
-	case n < 11:
+	case n < 4:
+		text, _ := bothChange(t, w, m, anyChange(r, m))
+		return text
+	case n < 14:
 		return bothSubmit(t, w, m, anyLeaf(r, m), anyDemand(r))
 	}
 	return bothFinish(t, w, m, anyWork(r, m))

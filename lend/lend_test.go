@@ -51,6 +51,24 @@ func TestOwnByTheirPaths(t *testing.T) {
 	}
 }
 
+// TestOwnByTheirPathsBehindAMove: by the paths that they have by then.
+func TestOwnByTheirPathsBehindAMove(t *testing.T) {
+	root, book := sample(), &works.Book{}
+	for _, path := range []string{"b", "a", "x/a", "xa"} {
+		book.Submit(root.Find(path), api.Amount{3, 0})
+	}
+	y, xaa := tree.NewCohort(plenty), tree.NewLeaf(api.Amount{10, 10}, plenty)
+	root.Hang("y", y)
+	root.Find("a").MoveTo(y)
+	root.Find("b").MoveTo(root.Find("x"))
+	root.Find("x").MoveTo(y)
+	root.Hang("xaa", xaa)
+	book.Submit(xaa, api.Amount{3, 0})
+	if got := spell(Look(root, book)); got != "+4+5+2+3+1" { // xa, xaa, y/a, y/x/a, y/x/b
+		t.Errorf("Look told %q", got)
+	}
+}
+
 // TestOwnOfSeveralPutOut: each puts out for itself, as it comes.
 func TestOwnOfSeveralPutOut(t *testing.T) {
 	root, book := sample(), &works.Book{}

@@ -35,6 +35,12 @@ func (q *Queue) Leaf() bool { return q.leaf }
 // Borrow is what the queue may use above its nominal.
 func (q *Queue) Borrow() api.Amount { return q.borrow }
 
+// Above is the queue in which this one hangs, or nil.
+func (q *Queue) Above() *Queue { return q.above }
+
+// Empty tells whether no queue hangs in this one.
+func (q *Queue) Empty() bool { return len(q.below) == 0 }
+
 // Nominal is the sum of what the leaves have. A cohort's is never kept, so it
 // cannot differ from theirs.
 func (q *Queue) Nominal() api.Amount {
@@ -47,6 +53,15 @@ func (q *Queue) Nominal() api.Amount {
 
 // Limit is the most that the queue may use.
 func (q *Queue) Limit() api.Amount { return amounts.Add(q.Nominal(), q.borrow) }
+
+// SetQuota says anew what a queue may use. A cohort has what its leaves have,
+// so only its borrow is taken.
+func (q *Queue) SetQuota(nominal, borrow api.Amount) {
+	if q.leaf {
+		q.own = nominal
+	}
+	q.borrow = borrow
+}
 
 // Path says where the queue hangs.
 func (q *Queue) Path() string {
@@ -62,6 +77,19 @@ func (q *Queue) Hang(name string, queue *Queue) {
 	queue.name = strings.Clone(name) // what was handed in is not kept
 	queue.above = q
 	q.below = slices.Insert(q.below, at, queue)
+}
+
+// Leave takes the queue out of the one in which it hangs, with all below it.
+func (q *Queue) Leave() {
+	at, _ := q.above.place(q.name)
+	q.above.below = slices.Delete(q.above.below, at, at+1)
+	q.above = nil
+}
+
+// MoveTo hangs the queue in another one, under its name, which is free there.
+func (q *Queue) MoveTo(to *Queue) {
+	q.Leave()
+	to.Hang(q.name, q)
 }
 
 // Find is the queue with this path, seen from here, or nil.
@@ -84,6 +112,9 @@ func (q *Queue) Up() iter.Seq[*Queue] {
 		}
 	}
 }
+
+// Depth is how many names the queue's path has.
+func (q *Queue) Depth() int { return paths.Depth(q.Path()) }
 
 // In tells whether the queue is this one or lies below it.
 func (q *Queue) In(other *Queue) bool {

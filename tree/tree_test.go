@@ -137,3 +137,86 @@ func TestIn(t *testing.T) {
 		}
 	}
 }
+
+// allPaths are those of all queues, as they are gone through.
+func allPaths(root *Queue) []string {
+	var list []string
+	for queue := range root.All() {
+		list = append(list, queue.Path())
+	}
+	return list
+}
+
+func TestLeave(t *testing.T) {
+	root := sample()
+	x := root.Find("x")
+	x.Leave()
+	if got, want := allPaths(root), []string{"", "c", "xy"}; !slices.Equal(got, want) {
+		t.Errorf("left are %q, want %q", got, want)
+	}
+	if got, want := allPaths(x), []string{"", "a", "b"}; !slices.Equal(got, want) || x.Above() != nil {
+		t.Errorf("it has %q, want %q, and hangs in %v", got, want, x.Above())
+	}
+	if root.Nominal() != (api.Amount{101, 202}) || x.Nominal() != (api.Amount{10, 20}) {
+		t.Errorf("the nominals are %v and %v", root.Nominal(), x.Nominal())
+	}
+	root.Hang("x", x)
+	if got, want := allPaths(root), allPaths(sample()); !slices.Equal(got, want) {
+		t.Errorf("behind it are %q, want %q", got, want)
+	}
+}
+
+// TestNobodyIsHeldOnTo: a queue that has left is in no spare room either.
+func TestNobodyIsHeldOnTo(t *testing.T) {
+	root := sample()
+	root.Find("c").Leave()
+	root.Find("xy").Leave()
+	for _, queue := range root.below[:cap(root.below)][len(root.below):] {
+		if queue != nil {
+			t.Errorf("%+v is still held", queue)
+		}
+	}
+}
+
+func TestMoveTo(t *testing.T) {
+	root := sample()
+	root.Find("xy").MoveTo(root.Find("x/a"))
+	root.Find("x/a").MoveTo(root)
+	root.Find("x/b").MoveTo(root)
+	root.Find("x").MoveTo(root.Find("a"))
+	if got, want := allPaths(root), []string{"", "a", "a/x", "a/xy", "b", "c"}; !slices.Equal(got, want) {
+		t.Errorf("there are %q, want %q", got, want)
+	}
+	if root.Find("a/x").Above() != root.Find("a") || root.Find("b").Above() != root || root.Above() != nil {
+		t.Error("what hangs in what is not where it is found")
+	}
+	if root.Nominal() != (api.Amount{111, 222}) || root.Find("a").Nominal() != (api.Amount{1, 2}) {
+		t.Errorf("the nominals are %v and %v", root.Nominal(), root.Find("a").Nominal())
+	}
+}
+
+func TestEmptyAndDepth(t *testing.T) {
+	root := sample()
+	for _, c := range []struct {
+		path  string
+		empty bool
+		depth int
+	}{{"", false, 0}, {"x", false, 1}, {"xy", true, 1}, {"x/a", true, 2}, {"x/b", true, 2}} {
+		if queue := root.Find(c.path); queue.Empty() != c.empty || queue.Depth() != c.depth {
+			t.Errorf("%q: %v, %d, want %+v", c.path, queue.Empty(), queue.Depth(), c)
+		}
+	}
+}
+
+// TestSetQuota: of a cohort the borrow alone.
+func TestSetQuota(t *testing.T) {
+	root := sample()
+	root.Find("x/b").SetQuota(api.Amount{3, 4}, api.Amount{1, 1})
+	root.Find("x").SetQuota(api.Amount{9, 9}, api.Amount{2, 2})
+	if got := root.Find("x/b").Limit(); got != (api.Amount{4, 5}) {
+		t.Errorf("the limit of the leaf is %v", got)
+	}
+	if got := root.Find("x"); got.Nominal() != (api.Amount{3, 4}) || got.Limit() != (api.Amount{5, 6}) {
+		t.Errorf("the cohort has %v, %v", got.Nominal(), got.Limit())
+	}
+}

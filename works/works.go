@@ -61,6 +61,12 @@ func (b *Book) Find(number int) (*Work, bool) {
 	return find(b.waiting, number), false
 }
 
+// Has tells whether a leaf has workloads, which may ask for nothing.
+func (b *Book) Has(leaf *tree.Queue) bool {
+	ofLeaf := func(work *Work) bool { return work.Leaf == leaf }
+	return slices.ContainsFunc(b.waiting, ofLeaf) || slices.ContainsFunc(b.admitted, ofLeaf)
+}
+
 // Line gives the workloads that wait in a leaf, the head first.
 func (b *Book) Line(leaf *tree.Queue) iter.Seq[*Work] {
 	return func(yield func(*Work) bool) {

@@ -152,3 +152,24 @@ func TestLeftEarly(t *testing.T) {
 		}
 	}
 }
+
+func TestHas(t *testing.T) {
+	book, root, a, b := sample()
+	if !book.Has(a) || !book.Has(b) || book.Has(root) {
+		t.Errorf("a, b and the root have: %v, %v, %v", book.Has(a), book.Has(b), book.Has(root))
+	}
+	for range 3 {
+		book.Admit(book.Head(a)) // none waits there then
+		book.Finish(book.Head(b))
+	}
+	if !book.Has(a) || book.Has(b) {
+		t.Errorf("a and b have: %v, %v", book.Has(a), book.Has(b))
+	}
+	for _, number := range []int{1, 3, 5} {
+		work, _ := book.Find(number)
+		book.Finish(work)
+	}
+	if book.Has(a) {
+		t.Error("a has workloads, but all have ended")
+	}
+}

@@ -29,7 +29,10 @@ func everyCall(w *borrow.Tower, text string, number int) {
 	for range w.All() {
 		break
 	}
-	w.Remove(text)
+	for range w.All() {
+		w.Move(text, "")
+		w.Remove(text)
+	}
 }
 
 func TestNothingPanics(t *testing.T) {
@@ -105,6 +108,10 @@ func TestAskingChangesNothing(t *testing.T) {
 	for _, number := range append(noNumbers(), 1, 2, 3, 4, 5) {
 		w.Work(number)
 	}
+	w.All()
+	for range w.All() {
+		break
+	}
 	if after := picture(w, there); after != before {
 		t.Errorf("P2: asking changed the tower from\n%s to\n%s", before, after)
 	}
@@ -123,6 +130,9 @@ func TestAnswersAreTheCallers(t *testing.T) {
 		scribbleEvents(other)
 		for _, path := range paths {
 			q, _ := scribbled.Queue(path)
+			scribbleNumbers(q.Waiting)
+		}
+		for q := range scribbled.All() {
 			scribbleNumbers(q.Waiting)
 		}
 		if one, other := picture(kept, paths), picture(scribbled, paths); one != other {
@@ -188,6 +198,9 @@ func TestAnswersShareNothing(t *testing.T) {
 			q, _ := w.Queue(path)
 			waiting = append(waiting, q.Waiting)
 		}
+		for q := range w.All() {
+			waiting = append(waiting, q.Waiting)
+		}
 	}
 	for _, list := range events {
 		want += spell(list)
@@ -210,13 +223,19 @@ func TestAnswersShareNothing(t *testing.T) {
 		}
 		copy(events[i], kept)
 	}
-	before := fmt.Sprint(waiting)
-	for i := range waiting {
-		kept := slices.Clone(waiting[i])
-		scribbleNumbers(waiting[i])
-		copy(waiting[i], kept)
-		if after := fmt.Sprint(waiting); after != before {
-			t.Fatalf("P2: writing into an answer made of the lines %s, which were %s", after, before)
+	apart(t, waiting)
+}
+
+// apart writes each list full, its spare room too, and looks whether another one changes.
+func apart(t *testing.T, lists [][]int) {
+	t.Helper()
+	before := fmt.Sprint(lists)
+	for i := range lists {
+		own := slices.Clone(lists[i])
+		scribbleNumbers(lists[i])
+		copy(lists[i], own)
+		if after := fmt.Sprint(lists); after != before {
+			t.Fatalf("P2: writing into a list made of the lists %s, which were %s", after, before)
 		}
 	}
 }

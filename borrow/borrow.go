@@ -75,7 +75,15 @@ func (t *Tower) Work(work int) (api.Work, api.Errno) {
 }
 
 // All goes through the queues (P10).
-func (t *Tower) All() iter.Seq[api.Queue] { return func(yield func(api.Queue) bool) {} }
+func (t *Tower) All() iter.Seq[api.Queue] {
+	return func(yield func(api.Queue) bool) {
+		for _, queue := range t.tellAll() {
+			if !yield(queue) {
+				return
+			}
+		}
+	}
+}
 
 // answer looks who can be admitted, behind a change that was not refused (P7).
 func (t *Tower) answer(refusal api.Errno) ([]api.Event, api.Errno) {

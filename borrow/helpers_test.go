@@ -134,9 +134,12 @@ func untold(t *testing.T, w *borrow.Tower, path string, want api.Errno) {
 	}
 }
 
-// picture is all that the tower tells of these paths, and of its first workloads.
+// picture is all that the tower tells of these paths, of all queues, and of its first workloads.
 func picture(w *borrow.Tower, paths []string) string {
 	var text strings.Builder
+	for q := range w.All() {
+		fmt.Fprintf(&text, "%+v\n", q)
+	}
 	for _, path := range paths {
 		q, e := w.Queue(path)
 		fmt.Fprintf(&text, "%q: %+v, %d\n", path, q, e)

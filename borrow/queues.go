@@ -92,6 +92,16 @@ func (t *Tower) tell(queue *tree.Queue) api.Queue {
 	}
 }
 
+// tellAll tells of all queues before the first one is given, since whoever goes
+// through them may call on the tower meanwhile.
+func (t *Tower) tellAll() []api.Queue {
+	var list []api.Queue
+	for queue := range t.root.All() {
+		list = append(list, t.tell(queue))
+	}
+	return list
+}
+
 // waiting is the numbers of those in a queue's line; a cohort has none.
 func (t *Tower) waiting(queue *tree.Queue) []int {
 	var numbers []int
